@@ -1,0 +1,1 @@
+"""Recurwright: calendars, days that come again, zones and plans."""

@@ -1,0 +1,250 @@
+"""The interface: each listed name stands, with its arguments and fields, in the file under which it is listed."""
+
+import ast
+import pathlib
+import unittest
+
+PACKAGE = pathlib.Path(__file__).resolve().parent.parent / "recurwright"
+
+INTERFACE = {
+    "errors": """
+        class CalendarFault(ValueError)
+        class BadCalendar(CalendarFault)
+        class BadDay(CalendarFault)
+        class BadTime(CalendarFault)
+        class BadRule(CalendarFault)
+        class BadZone(CalendarFault)
+        class BadSize(CalendarFault)
+        class BadPaper(CalendarFault)
+        class BadText(CalendarFault)
+        class BadStore(CalendarFault)
+        class NoDay(CalendarFault)
+        class NoSuch(CalendarFault)
+    """,
+    "calendars": """
+        class Calendar()
+        Calendar.__init__(months, long_month, cycle, long_years, week, first_weekday=0)
+        Calendar.cycle_days()
+        Calendar.is_long(year)
+        Calendar.year_days(year)
+        Calendar.month_days(year, month)
+        Calendar.first_of(year)
+        Calendar.number_of(year, month, day)
+        Calendar.year_of(number)
+        Calendar.date(number)
+        Calendar.weekday_of(number)
+        Calendar.shown()
+        Calendar: months, long_month, cycle, long_years, week, first_weekday, starts
+        common()
+        kinds_of_years(calendar)
+    """,
+    "days": """
+        class Day()
+        Day.__init__(calendar, number)
+        Day.left_in_month()
+        Day.left_in_year()
+        Day.month_number()
+        Day.week_number()
+        Day.nth()
+        Day.nth_back()
+        Day.shown()
+        Day: calendar, number, year, month, day, weekday, year_day
+        day_of(calendar, year, month, day)
+        moved(day, many)
+        months_on(day, many, held=True)
+        years_on(day, many, held=True)
+        nth_weekday(calendar, year, month, weekday, nth)
+        between(one, other)
+        age(born, now)
+        quarter(day, many)
+    """,
+    "weeks": """
+        middle(calendar)
+        week_start(calendar, number)
+        week_of(calendar, number)
+        first_week(calendar, year)
+        weeks_in(calendar, year)
+        from_week(calendar, year, week, weekday)
+        long_week_years(calendar, first, last)
+        weekdays_between(calendar, first, last, weekday)
+    """,
+    "rules": """
+        PARTS = ('weekday', 'month', 'day', 'back', 'year day', 'year back', 'nth', 'nth back')
+        STEPS = ('days', 'weeks', 'months', 'years')
+        class Is()
+        Is.__init__(part, numbers)
+        Is.has(day)
+        Is.steps()
+        Is.reach(calendar)
+        Is.shown()
+        Is: part, numbers
+        part_of(day, part)
+        class Every()
+        Every.__init__(unit, count, start)
+        Every.has(day)
+        Every.steps()
+        Every.reach(calendar)
+        Every.shown()
+        Every: unit, count, start
+        unit_of(day, unit)
+        class All()
+        All.__init__(rules)
+        All.has(day)
+        All.steps()
+        All.reach(calendar)
+        All.shown()
+        All: rules
+        class Any()
+        Any.__init__(rules)
+        Any.has(day)
+        Any.steps()
+        Any.reach(calendar)
+        Any.shown()
+        Any: rules
+        class Not()
+        Not.__init__(rule)
+        Not.has(day)
+        Not.steps()
+        Not.reach(calendar)
+        Not.shown()
+        Not: rule
+        class Pick()
+        Pick.__init__(rule, unit, places)
+        Pick.has(day)
+        Pick.steps()
+        Pick.reach(calendar)
+        Pick.shown()
+        Pick: rule, unit, places
+        class Moved()
+        Moved.__init__(rule, many)
+        Moved.has(day)
+        Moved.steps()
+        Moved.reach(calendar)
+        Moved.shown()
+        Moved: rule, many
+        counted(rule, day, unit)
+        day_at(day, number)
+        always()
+        never()
+    """,
+    "counts": """
+        MOST = 6000
+        shared(one, other)
+        period_of(calendar, rule)
+        away_of(calendar, rule)
+        sign_of(calendar, rule, year)
+        class Counter()
+        Counter.__init__(calendar, rule)
+        Counter.places_in(year)
+        Counter.in_period()
+        Counter.ahead_of_year(year)
+        Counter.ahead(number)
+        Counter.between(first, last)
+        Counter.at(count)
+        Counter.nth(number, many)
+        Counter.next(number)
+        Counter.last_ahead(number)
+        Counter.days_between(first, last)
+        Counter.papers()
+        Counter: calendar, rule, period, kinds, signs, sums
+        check_papers(calendar, rule, papers)
+    """,
+    "clashes": """
+        both_rules(calendar, one, other)
+        never_meet(calendar, one, other)
+        first_meeting(calendar, one, other, number)
+        same_days(calendar, one, other)
+        within(calendar, one, other)
+        first_unlike(calendar, one, other, number)
+        covers_all(calendar, rules)
+        longest_gap(counter)
+        gaps(counter)
+        pairs(calendar, rules)
+    """,
+    "workdays": """
+        WAYS = ('behind', 'ahead', 'nearest', 'within month')
+        class Works()
+        Works.__init__(calendar, worked, off)
+        Works.is_worked(number)
+        Works.add(number, many)
+        Works.between(first, last)
+        Works.to_worked(number, way)
+        Works.last_of_month(year, month)
+        Works.nth_of_month(year, month, nth)
+        Works: calendar, rule, counter
+        paid(works, rule_counter, first, last, way)
+        doubled(days)
+    """,
+    "clocks": """
+        DAY = 86400
+        FIGURES = '0123456789'
+        check_time(seconds)
+        time_of(hours, minutes, seconds=0)
+        parts_of(seconds)
+        two(number)
+        told_time(seconds)
+        read_time(text)
+        told_length(seconds)
+        read_length(text)
+        rounded(seconds, step)
+    """,
+    "zones": """
+        class Zone()
+        Zone.__init__(first, changes=())
+        Zone.ahead(when)
+        Zone.local(when)
+        Zone.times_of(local)
+        Zone.time_of(local, later=False)
+        Zone.gaps()
+        Zone.folds()
+        Zone.merged()
+        Zone.shown()
+        Zone: first, changes
+        same_from(one, other, when)
+        day_length(zone, number)
+    """,
+}
+
+
+def plain(function):
+    """A function's name and arguments as the interface writes them, but for a method's own object."""
+    text = ast.unparse(function.args)
+    if text == "self" or text.startswith("self, "):
+        text = text[len("self, "):]
+    return f"{function.name}({text})"
+
+
+def of_class(node):
+    """The rows that the interface may list of a class: its head, its methods and its fields."""
+    rows = {f"class {node.name}({', '.join(ast.unparse(base) for base in node.bases)})"}
+    for method in [part for part in node.body if isinstance(part, ast.FunctionDef)]:
+        rows.add(f"{node.name}.{plain(method)}")
+    return rows
+
+
+def fields_of(node):
+    """The attributes that a class sets when an object is made."""
+    makers = [part for part in node.body if isinstance(part, ast.FunctionDef) and part.name == "__init__"]
+    return {part.attr for maker in makers for part in ast.walk(maker)
+            if isinstance(part, ast.Attribute) and isinstance(part.ctx, ast.Store)}
+
+
+class InterfaceTest(unittest.TestCase):
+    def test_all_that_is_listed_stands(self):
+        for name, text in INTERFACE.items():
+            tree = ast.parse((PACKAGE / f"{name}.py").read_text())
+            rows, fields = set(), {}
+            for node in tree.body:
+                if isinstance(node, ast.ClassDef):
+                    rows |= of_class(node)
+                    fields[node.name] = fields_of(node)
+                elif isinstance(node, ast.FunctionDef):
+                    rows.add(plain(node))
+                elif isinstance(node, ast.Assign):
+                    rows.add(ast.unparse(node))
+            for row in [row.strip() for row in text.strip().split("\n")]:
+                if ": " in row:
+                    owner, listed = row.split(": ")
+                    self.assertEqual(set(listed.split(", ")) - fields[owner], set(), (name, owner))
+                else:
+                    self.assertIn(row, rows, name)
