@@ -5,7 +5,7 @@ from recurwright.errors import BadText, BadTime
 DAY = 86400
 FIGURES = "0123456789"
 LETTERS = "dhms"
-SIZES = (DAY, 3600, 60, 1)
+SIZES = (86400, 3600, 60, 1)
 
 
 def check_time(seconds):
