@@ -203,6 +203,78 @@ INTERFACE = {
         same_from(one, other, when)
         day_length(zone, number)
     """,
+    "seasons": """
+        class Turn()
+        Turn.__init__(rule, time, far)
+        Turn: rule, time, far
+        turn_days(calendar, turn, first, last)
+        zone_of(calendar, start, turns, first, last)
+        summer_days(calendar, zone, year)
+        changes_in(calendar, zone, year)
+    """,
+    "spells": """
+        class Spell()
+        Spell.__init__(months=0, days=0, seconds=0)
+        Spell.shown()
+        Spell.is_bare()
+        Spell: months, days, seconds
+        plus(one, other)
+        times(spell, many)
+        on(calendar, local, spell)
+        row_of(calendar, local, spell, many)
+        told_spell(calendar, spell)
+        read_spell(calendar, text)
+        most_between(calendar, first, last)
+    """,
+    "spans": """
+        check_span(span)
+        together(spans)
+        both(one, other)
+        without(one, other)
+        free(spans, first, last)
+        total(spans)
+        first_free(spans, first, length, step=1)
+        deepest(spans)
+        covers(spans, span)
+        clashing(spans)
+    """,
+    "plans": """
+        class Plan()
+        Plan.__init__(calendar, rule, time, length, zone, first, last=None)
+        Plan.ruled(number)
+        Plan.has(number)
+        Plan.drop(number)
+        Plan.add(number)
+        Plan.move(number, time)
+        Plan.days_between(low, high)
+        Plan.span(number)
+        Plan.spans(low, high)
+        Plan.next_day(number)
+        Plan.how_many()
+        Plan.shown()
+        Plan: counter, rule, time, length, zone, first, last, dropped, added, moved
+        all_spans(plans, low, high)
+        all_clashes(plans, low, high)
+    """,
+    "books": """
+        class Book()
+        Book.__init__()
+        Book.put(name, plan)
+        Book.take(name)
+        Book.here(name)
+        Book.names()
+        Book.in_order()
+        Book.on_day(number)
+        Book.between(low, high)
+        Book.next(number)
+        Book.next_of(plan, number)
+        Book.clashes(low, high)
+        Book.busy(low, high)
+        Book.room(low, high, start, length, step)
+        Book: plans
+        common_room(books, low, high, start, length, step)
+        merged(base, one, other)
+    """,
 }
 
 

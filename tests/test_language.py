@@ -14,13 +14,14 @@ BUILTINS = {
 BUILTIN_METHODS = set(
     "append clear copy count endswith extend find get index insert isalnum isalpha isdigit islower isspace isupper items"
     " join keys ljust lower lstrip partition pop remove replace reverse rfind rjust rpartition rsplit rstrip setdefault"
-    " split splitlines startswith strip update upper values zfill bit_length".split())
+    " split splitlines startswith strip update upper values zfill bit_length removeprefix".split())
 NODES = (
     ast.Module, ast.Expr, ast.Constant, ast.ImportFrom, ast.alias, ast.FunctionDef, ast.arguments, ast.arg, ast.ClassDef,
     ast.Assign, ast.AugAssign, ast.Name, ast.Load, ast.Store, ast.Attribute, ast.Call, ast.keyword, ast.Return, ast.Raise,
     ast.If, ast.For, ast.While, ast.IfExp, ast.Compare, ast.BoolOp, ast.BinOp, ast.UnaryOp, ast.boolop, ast.operator,
     ast.cmpop, ast.Not, ast.USub, ast.Tuple, ast.List, ast.Dict, ast.Subscript, ast.Slice, ast.ListComp, ast.DictComp,
     ast.SetComp, ast.comprehension, ast.JoinedStr, ast.FormattedValue, ast.Break, ast.Continue, ast.Pass,
+    ast.Try, ast.ExceptHandler,
 )
 BARRED = (ast.Div, ast.MatMult, ast.Pow)
 
@@ -66,6 +67,14 @@ class LanguageTest(unittest.TestCase):
                     self.assertIsNotNone(ast.get_docstring(node) or node.name == "__init__" or None, place)
                 if isinstance(node, ast.BinOp) and isinstance(node.op, ast.Mod):
                     self.assertNotIsInstance(node.left, (ast.Constant, ast.JoinedStr), place)
+
+    def test_only_own_errors_are_caught(self):
+        own = {node.name for node in trees()["errors.py"].body if isinstance(node, ast.ClassDef)}
+        for name, tree in trees().items():
+            for node in ast.walk(tree):
+                if isinstance(node, ast.ExceptHandler):
+                    self.assertIn(ast.unparse(node.type), own, (name, node.lineno))
+                    self.assertIsNone(node.name, (name, node.lineno))
 
     def test_no_percent_sign_in_strings(self):
         for name, tree in trees().items():
