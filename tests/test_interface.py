@@ -275,6 +275,80 @@ INTERFACE = {
         common_room(books, low, high, start, length, step)
         merged(base, one, other)
     """,
+    "words": """
+        FIGURES = '0123456789'
+        told(rule)
+        words_of(row)
+        numbers_told(numbers)
+        class Reader()
+        Reader.__init__(text)
+        Reader.here()
+        Reader.take(sign=None)
+        Reader.take_number()
+        Reader.take_numbers()
+        Reader.take_rule()
+        Reader.inner()
+        Reader.row()
+        Reader: signs, place
+        whole(word)
+        read(text)
+    """,
+    "terms": """
+        business_year(calendar, number, first_month)
+        part_of_business(calendar, number, first_month, many)
+        start_of_part(calendar, year, first_month, part, many)
+        weeks_pattern(calendar, start, pattern, number)
+        even_months(calendar, first, last, size)
+        share_of_years(calendar, first, last)
+        due_days(calendar, first, months, many)
+        spread(amount, many)
+    """,
+    "meets": """
+        cost_of(calendar, wishes, number)
+        best_day(calendar, wishes, first, last)
+        soonest_for_all(calendar, rules, number, many)
+        turns(people, counter, number, many)
+        turn_on(people, counter, number)
+        shifts(needs, people, most)
+        check_shifts(needs, rows, people, most)
+    """,
+    "rings": """
+        MOST = 5000
+        class Ring()
+        Ring.__init__(period, places)
+        Ring.has(number)
+        Ring.ahead(number)
+        Ring.at(count)
+        Ring.next(number)
+        Ring.shown()
+        Ring: period, places
+        widened(ring, times)
+        least(ring)
+        paired(one, other)
+        either(one, other)
+        common_to(one, other)
+        opposite(ring)
+        shifted(ring, many)
+        same(one, other)
+        meeting(first, period, second, other)
+        many_between(ring, first, last)
+    """,
+    "hours": """
+        class Hours()
+        Hours.__init__(week, rows, others=None)
+        Hours.of_day(day)
+        Hours.is_open(time)
+        Hours.in_week()
+        Hours.in_day(day)
+        Hours.ahead(time)
+        Hours.in_row(weekday)
+        Hours.between(first, last)
+        Hours.next_open(time)
+        Hours.next_shut(time)
+        Hours.add(time, much)
+        Hours: week, rows, others
+        day_spans(spans)
+    """,
 }
 
 
