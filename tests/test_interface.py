@@ -349,6 +349,147 @@ INTERFACE = {
         Hours: week, rows, others
         day_spans(spans)
     """,
+    "crons": """
+        FIGURES = '0123456789'
+        numbers_of(word, low, high)
+        number_of(word)
+        class Cron()
+        Cron.__init__(calendar, text)
+        Cron.of_day()
+        Cron.has(time)
+        Cron.ahead(time)
+        Cron.at(count)
+        Cron.next(time)
+        Cron.last_ahead(time)
+        Cron.between(first, last)
+        Cron: minutes, hours, rule, counter
+        first_of_all(crons, time)
+        told_numbers(numbers, low, high)
+    """,
+    "trips": """
+        class Ride()
+        Ride.__init__(calendar, rule, start, time, end, length)
+        Ride.next(time)
+        Ride.last_leave(time)
+        Ride: counter, start, time, end, length
+        earliest(rides, start, time, change)
+        way(rides, start, end, time, change)
+        check_way(rides, start, end, time, change, steps, table)
+        latest(rides, end, time, change)
+    """,
+    "eras": """
+        class Pair()
+        Pair.__init__(one, other, offset)
+        Pair.across(year, month, day)
+        Pair.back(year, month, day)
+        Pair.both_begin(number, unit, most)
+        Pair: one, other, offset
+        class Reigns()
+        Reigns.__init__(rows)
+        Reigns.reign(number)
+        Reigns.told(calendar, number)
+        Reigns.day_number(calendar, name, year, month, day)
+        Reigns.years_of(calendar, place)
+        Reigns: rows
+    """,
+    "alarms": """
+        class Alarms()
+        Alarms.__init__()
+        Alarms.put(name, plan, ahead)
+        Alarms.take(name)
+        Alarms.due(first, last)
+        Alarms.tell(time)
+        Alarms.put_off(row, much)
+        Alarms.waiting()
+        Alarms: rows, told_to, later
+    """,
+    "histories": """
+        class History()
+        History.__init__(rows=None)
+        History.put(name, row)
+        History.take(name)
+        History.do(edit)
+        History.let(name, row)
+        History.undo()
+        History.redo()
+        History.at(count)
+        History.between(first, last)
+        History.names_ever()
+        History: rows, done, undone
+        unlike(one, other)
+        patched(rows, changes)
+    """,
+    "moons": """
+        PART = 10000
+        class Moons()
+        Moons.__init__(month, year, lead=0)
+        Moons.first_day(moon)
+        Moons.moon_of(number)
+        Moons.days_in(moon)
+        Moons.first_moon(year)
+        Moons.moons_in(year)
+        Moons.year_of(moon)
+        Moons.date(number)
+        Moons.number_of(year, month, day)
+        Moons.most_moons(first, last)
+        Moons: month, year, lead
+        lengths(moons, first, last)
+        is_even(moons, first, many)
+    """,
+    "sheets": """
+        month_rows(calendar, year, month)
+        told_month(calendar, year, month, marked=())
+        read_month(calendar, rows)
+        marks(calendar, rule, year, month)
+        year_sheet(calendar, year, rule)
+        same_sheet(calendar, year, other)
+        next_same(calendar, year)
+        day_by_sheet(calendar, year, month, week, weekday)
+    """,
+    "rates": """
+        class Rates()
+        Rates.__init__(calendar, lines, other)
+        Rates.line(number)
+        Rates.rate(time)
+        Rates.day_cost(place)
+        Rates.part_cost(number, seconds)
+        Rates.ahead(time)
+        Rates.cost(first, last)
+        Rates.mean()
+        Rates.until(first, much)
+        Rates: calendar, lines, other, counters
+        cheapest(rates, first, last, length, step)
+    """,
+    "records": """
+        class Records()
+        Records.__init__()
+        Records.tell(when, name, value, first, last=None)
+        Records.at(name, day, when)
+        Records.spans(name, when)
+        Records.names(when)
+        Records.changed(name, first, second)
+        Records.first_known(name, day, value)
+        Records: rows
+        value_in(spans, day)
+        meets_all(records, names, when)
+    """,
+    "desks": """
+        FIGURES = '0123456789'
+        BASE = 9973
+        WIDE = 2000003
+        read_day(calendar, word)
+        told_day(calendar, number)
+        figure_of(text)
+        class Desk()
+        Desk.__init__(calendar=None)
+        Desk.say(line)
+        Desk.do(line)
+        Desk.answer(words)
+        Desk.written(words)
+        Desk: calendar, zone, book, text, many
+        lines_of(text)
+        done_again(text, calendar=None)
+    """,
 }
 
 
