@@ -30,8 +30,9 @@ def span_of(part, low, high):
     first = number_of(begin)
     if stroke != "":
         return first, number_of(end), by
-    # A number alone is itself, but with a step it goes on to the highest.
-    return first, first if slash == "" else high, by
+    if slash != "":
+        return first, high, by
+    return first, first, by
 
 
 def number_of(word):

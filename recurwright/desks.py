@@ -114,8 +114,8 @@ class Desk:
 
     def answer(self, words):
         """Return what a day has, what comes next, a plan's n-th day from one on, or the names; BadText."""
-        kind = words[0]
         many = len(words)
+        kind = "" if many == 0 else words[0]
         if kind == "day" and many == 2:
             rows = self.book.on_day(read_day(self.calendar, words[1]))
             return tuple([told_row(span, name) for span, name in rows])
@@ -132,8 +132,8 @@ class Desk:
 
     def written(self, words):
         """Write a done line with its number and figure; return no lines."""
-        body = " ".join([str(self.many)] + words)
-        self.text = f"{self.text}{body} {figure_of(body)}\n"
+        body = " ".join([str(self.many)] + list(words))
+        self.text = self.text + body + " " + str(figure_of(body)) + "\n"
         self.many += 1
         return ()
 

@@ -12,9 +12,9 @@ class Plan:
     def __init__(self, calendar, rule, time, length, zone, first, last=None):
         if length < 1 or (last is not None and last < first):
             raise BadTime("no length, or the last day is ahead of the first")
-        self.time = check_time(time)
         self.counter = Counter(calendar, rule)
         self.rule = rule
+        self.time = check_time(time)
         self.length = length
         self.zone = zone
         self.first = first

@@ -197,6 +197,9 @@ class CheapestTest(unittest.TestCase):
         self.assertEqual(cheapest(rates, friday - 3 * DAY, friday + 2 * DAY, HOUR, 60), friday - 3 * DAY)
         self.assertEqual(cheapest(rates, friday, friday + 9 * HOUR, 9 * HOUR, 5), friday)
         self.assertEqual(cheapest(rates, friday, friday + 9 * DAY, HOUR, 10 ** 9), friday)
+        # A second alone, and a length that just has room.
+        self.assertEqual(cheapest(rates, friday + 17 * HOUR, friday + 18 * HOUR + 1, 1, 1), friday + 18 * HOUR)
+        self.assertEqual(cheapest(rates, friday, friday + 1, 1, 1), friday)
 
     def test_as_going_through_starts(self):
         draw = random.Random(30)

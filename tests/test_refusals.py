@@ -165,6 +165,7 @@ REFUSED = [
     # plans
     (BadTime, lambda w: w.made_plan(SIX, length=0)), (BadTime, lambda w: w.made_plan(SIX, first=5, last=4)),
     (BadTime, lambda w: w.made_plan(SIX, time=DAY)), (BadTime, lambda w: w.made_plan(SIX, time=-1)), (BadRule, lambda w: w.made_plan(LATE)),
+    (BadTime, lambda w: w.made_plan(LATE, length=0)), (BadRule, lambda w: w.made_plan(LATE, time=DAY)),
     (NoSuch, lambda w: w.plan.drop(1)), (NoSuch, lambda w: w.plan.drop(36)), (NoSuch, lambda w: w.plan.add(6)),
     (NoSuch, lambda w: w.plan.move(1, 5)), (NoSuch, lambda w: w.plan.move(1, -5)), (BadTime, lambda w: w.plan.move(6, DAY)),
     (NoSuch, lambda w: w.plan.span(1)), (NoDay, lambda w: w.plan.next_day(25)),
@@ -264,7 +265,7 @@ REFUSED = [
     (BadText, lambda w: desks.read_day(w.calendar, "0-1")), (BadDay, lambda w: desks.read_day(w.calendar, "0-1-6")), (BadText, lambda w: w.desk.do("")),
     (BadText, lambda w: w.desk.do("take")), (BadDay, lambda w: w.desk.do("drop a 0-1-6")), (NoSuch, lambda w: w.desk.do("drop a 0-1-2")),
     (BadTime, lambda w: w.desk.do("move a 0-1-1 25.00")), (NoSuch, lambda w: w.desk.do("put a 0-1-1 09.00 1h all ()")),
-    (BadText, lambda w: w.desk.answer(["hello"])), (BadText, lambda w: w.desk.answer(["names", "x"])), (NoSuch, lambda w: w.desk.answer("nth b 0-1-1 0".split())),
+    (BadText, lambda w: w.desk.answer(["hello"])), (BadText, lambda w: w.desk.answer(())), (BadText, lambda w: w.desk.answer(["names", "x"])), (NoSuch, lambda w: w.desk.answer("nth b 0-1-1 0".split())),
     (BadStore, lambda w: desks.lines_of(w.text[1:])), (BadStore, lambda w: desks.done_again(w.text + w.text)),
     (BadStore, lambda w: desks.done_again(w.text, calendars.Calendar((5,), 0, 5000, (0,), 7))),
 ]
